@@ -1,0 +1,1 @@
+"""dialforest: removing dials from a rooted forest."""
