@@ -6,9 +6,13 @@ MOST_NODES = 60
 MOST_SIZE = 12
 MOST_WEIGHT = 10 ** 12
 
-# The places of those fields of a node that are read one at a time, and the number of all its fields.
+# The places of the fields of a node, and their number.
 SIZE = 0
+SHOWN = 1
+ALLOWED = 2
+WEIGHT = 3
 PARENT = 4
+DOWN = 5
 UP = 6
 FIELDS = 7
 

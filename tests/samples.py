@@ -63,6 +63,48 @@ def random_forests():
     return [random_forest(rng, k) for k in many * 3]
 
 
+def small_forest(rng, many):
+    """Return a forest with small dials and weights, in which many sets of nodes have equal weights."""
+    sizes = [rng.randint(2, 3) for _ in range(many)]
+    nodes = []
+    for label, node in enumerate(random_forest(rng, many)):
+        size = sizes[label]
+        parent = node[4]
+        nodes.append((
+            size,
+            rng.randrange(size),
+            tuple(sorted(rng.sample(range(size), rng.choice([1, 1, 1, 2])))),
+            rng.randint(-2, 3),
+            parent,
+            0 if parent is None else rng.randrange(size),
+            0 if parent is None else rng.randrange(sizes[parent]),
+        ))
+    return tuple(nodes)
+
+
+def small_forests(most, times):
+    """Return forests of 1 to `most` nodes, `times` of each, the same ones at every call."""
+    rng = random.Random(11)
+    return [small_forest(rng, many) for many in range(1, most + 1) for _ in range(times)]
+
+
+def free_forest(parents, weights):
+    """Return a forest in which every node can be removed at any time."""
+    return tuple(
+        (2, 0, (0, 1), weight, parent, 0 if parent is None else 1, 0 if parent is None else 1)
+        for parent, weight in zip(parents, weights)
+    )
+
+
+def selections(rng, many, times):
+    """Return selections of the labels below `many`, the empty one first."""
+    found = [((), ())]
+    for _ in range(times):
+        kinds = [rng.choice("rf----") for _ in range(many)]
+        found.append(tuple(tuple(k for k in range(many) if kinds[k] == kind) for kind in "rf"))
+    return found
+
+
 def nested(depth, kind):
     """Return lists or tuples that are nested so deep."""
     value = kind()

@@ -1,7 +1,7 @@
 import inspect
 import unittest
 
-from dialforest import foresttexts, forests
+from dialforest import foresttexts, forests, preparation, reach, runs
 
 SIGNATURES = {
     forests: {
@@ -21,6 +21,47 @@ SIGNATURES = {
         "format_forest": "(forest)",
         "parse_forest": "(text)",
     },
+    runs: {
+        "check_run": "(forest, run)",
+        "is_run": "(forest, value)",
+        "shown_after": "(forest, run)",
+        "removable": "(forest, *, run=())",
+        "run_weight": "(forest, run)",
+        "remaining": "(forest, run)",
+    },
+    reach: {
+        "reach_table": "(forest, *, required=(), forbidden=())",
+        "greatest_weight": "(forest, *, required=(), forbidden=())",
+        "best_run": "(forest, *, required=(), forbidden=())",
+        "traced_run": "(forest, *, required=(), forbidden=())",
+        "check_reach_table": "(forest, table, *, required=(), forbidden=())",
+    },
+    preparation: {
+        "prepared": "(forest, numbers)",
+        "preparation_table": "(forest, *, prices=None)",
+        "least_price": "(forest, *, prices=None)",
+        "least_preparation": "(forest, *, prices=None)",
+        "check_preparation_table": "(forest, table, *, prices=None)",
+    },
+}
+METHODS = {
+    runs.Play: {
+        "__init__": "(self, forest)",
+        "__eq__": "(self, other)",
+        "__len__": "(self)",
+        "remove": "(self, label)",
+        "undo": "(self)",
+        "run": "(self)",
+        "shown": "(self)",
+        "removable": "(self)",
+        "weight": "(self)",
+        "copy": "(self)",
+    },
+}
+CONSTANTS = {
+    forests: {"MOST_NODES": 60, "MOST_SIZE": 12, "MOST_WEIGHT": 10 ** 12},
+    reach: {"MOST_BEST": 24},
+    preparation: {"MOST_PRICE": 10 ** 12},
 }
 
 
@@ -37,6 +78,23 @@ class Interface(unittest.TestCase):
                 with self.subTest(name=name):
                     self.assertTrue(inspect.isfunction(getattr(module, name)))
                     self.assertEqual(getattr(module, name).__module__, module.__name__)
+
+    def test_each_method_is_defined_in_the_body_of_its_class(self):
+        for owner, names in METHODS.items():
+            for name, signature in names.items():
+                with self.subTest(name=name):
+                    self.assertTrue(inspect.isfunction(vars(owner).get(name)))
+                    self.assertEqual(str(inspect.signature(vars(owner)[name])), signature)
+
+    def test_each_class_is_defined_in_its_file(self):
+        self.assertEqual(runs.Play.__module__, runs.__name__)
+
+    def test_constants(self):
+        for module, names in CONSTANTS.items():
+            for name, value in names.items():
+                with self.subTest(name=name):
+                    self.assertEqual(getattr(module, name), value)
+                    self.assertIs(type(getattr(module, name)), int)
 
 
 if __name__ == "__main__":
