@@ -1,6 +1,7 @@
 """Slow answers, each found by trying everything or by following the words of the document step by step."""
 
 import itertools
+import math
 
 from tests.samples import node_with
 
@@ -256,3 +257,80 @@ def preparation_by_trying(forest, prices):
             price = sum(prices[label][number] for label, number in numbers.items())
             found.append((price, tuple(numbers.values())))
     return min(found)
+
+
+def clearing_runs(forest):
+    """Return all clearing runs, ascending."""
+    return [run for run in all_runs(forest) if len(run) == len(forest)]
+
+
+def counted(forest, label, labels, turned=0):
+    """Count the orders of `labels` by the position of the node: the legal ones, and those at each of its numbers."""
+    shown = {other: forest[other][1] for other in labels}
+    shown[label] = (shown[label] + turned) % forest[label][0]
+    legal = [0] * len(labels)
+    stage = [[0] * len(labels) for _ in range(forest[label][0])]
+    for sequence, at in removals(forest, shown, exempt=label):
+        if len(sequence) == len(labels):
+            stage[at][sequence.index(label)] += 1
+            if at in forest[label][2]:
+                legal[sequence.index(label)] += 1
+    return tuple(legal), tuple(tuple(vector) for vector in stage)
+
+
+def count_row_by_trying(forest, label):
+    """Return the count row by a search over all sequences of the subtree."""
+    early, _ = counted(forest, label, branch(forest, label))
+    late = None
+    if forest[label][4] is not None:
+        late, _ = counted(forest, label, branch(forest, label), forest[label][5])
+    labels = [label]
+    stages = [counted(forest, label, labels)[1]]
+    for child in below(forest, label):
+        labels = labels + branch(forest, child)
+        stages.append(counted(forest, label, labels)[1])
+    return early, late, tuple(stages)
+
+
+def next_stage(stage, up, early, late):
+    """Return the stage that 7.6 gives from the previous stage and the row of a child."""
+    size, a, b = len(stage), len(stage[0]), len(early)
+    new = [[0] * (a + b) for _ in range(size)]
+    for r in range(size):
+        for k in range(a):
+            for t in range(b + 1):
+                w = stage[r][k] * math.comb(k + t, t) * math.comb(a - 1 - k + b - t, b - t)
+                new[(r + up) % size][k + t] += w * sum(early[:t])
+                new[r][k + t] += w * sum(late[t:])
+    return tuple(tuple(vector) for vector in new)
+
+
+def count_row_by_words(forest, label, rows):
+    """Return the count row that 7.5 to 7.7 give from the rows of the children."""
+    size, shown, allowed, _, parent, down, _ = forest[label]
+    stage = tuple((1,) if r == shown else (0,) for r in range(size))
+    stages = [stage]
+    for child in below(forest, label):
+        stage = next_stage(stage, forest[child][6], rows[child][0], rows[child][1])
+        stages.append(stage)
+    early = [stage[r] for r in range(size) if r in allowed]
+    late = [stage[r] for r in range(size) if (r + down) % size in allowed]
+    early, late = [tuple(sum(entries) for entries in zip(*vectors)) for vectors in (early, late)]
+    return early, None if parent is None else late, tuple(stages)
+
+
+def count_by_words(forest, table):
+    """Return the number of clearing runs that 7.8 gives from the count table."""
+    found = math.factorial(len(forest))
+    for label, node in enumerate(forest):
+        if node[4] is None:
+            found = found * sum(table[label][0]) // math.factorial(len(branch(forest, label)))
+    return found
+
+
+def downward_count(forest):
+    """Return in how many orders every node comes after its parent."""
+    found = math.factorial(len(forest))
+    for label in range(len(forest)):
+        found //= len(branch(forest, label))
+    return found

@@ -2,6 +2,8 @@
 
 import random
 
+from dialforest.preparation import least_preparation, prepared
+
 G = ((2, 1, (0,), 3, None, 0, 0), (3, 1, (0,), 5, 0, 2, 1), (2, 0, (0,), -1, 0, 1, 1))
 F = ((2, 0, (0,), 1, None, 0, 0), (2, 0, (0,), 1, None, 0, 0))
 # Two trees whose children have smaller labels than their parents: 4 over 0 and 2, 0 over 3; 1 over 5.
@@ -86,6 +88,55 @@ def small_forests(most, times):
     """Return forests of 1 to `most` nodes, `times` of each, the same ones at every call."""
     rng = random.Random(11)
     return [small_forest(rng, many) for many in range(1, most + 1) for _ in range(times)]
+
+
+def loose_forest(rng, many):
+    """Return a small forest in which most numbers are allowed, so that many orders clear it."""
+    return tuple(
+        node_with(node, allowed=tuple(sorted(rng.sample(range(node[0]), rng.choice([1, node[0] - 1, node[0]])))))
+        for node in small_forest(rng, many)
+    )
+
+
+def loose_forests(most, times):
+    """Return such forests of 1 to `most` nodes, `times` of each, the same ones at every call."""
+    rng = random.Random(13)
+    return [loose_forest(rng, many) for many in range(1, most + 1) for _ in range(times)]
+
+
+def shapes(many):
+    """Return tuples of the parents of forests of one or more trees, the labels in various orders."""
+    rng = random.Random(17)
+    return [
+        (None,) * many,
+        (None,) + (0,) * (many - 1),
+        (many - 1,) * (many - 1) + (None,),
+        (None, *range(many - 1)),
+        (*range(1, many), None),
+        (None, *[(k - 1) // 2 for k in range(1, many)]),
+        (None, *[rng.choice([None, *range(k)]) for k in range(1, many)]),
+        (None, *[rng.randrange(max(0, k - 4), k) for k in range(1, many)]),
+    ]
+
+
+def clearable(forest):
+    """Return the forest with numbers with which some run clears it."""
+    return prepared(forest, least_preparation(forest))
+
+
+def turning_forest(parents):
+    """Return a forest of the largest dials, in which every node turns its neighbours and can always be removed."""
+    return tuple(
+        (12, 3, tuple(range(12)), 1, parent, 0 if parent is None else 5, 0 if parent is None else 7)
+        for parent in parents
+    )
+
+
+def downward_forest(parents):
+    """Return a forest in which every node can be removed exactly when its parent was removed or does not exist."""
+    return tuple(
+        (2, 0, (0,), 1, None, 0, 0) if parent is None else (2, 1, (0,), 1, parent, 1, 0) for parent in parents
+    )
 
 
 def free_forest(parents, weights):

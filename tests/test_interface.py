@@ -1,7 +1,7 @@
 import inspect
 import unittest
 
-from dialforest import foresttexts, forests, preparation, reach, runs
+from dialforest import counts, foresttexts, forests, positions, preparation, ranks, reach, runs
 
 SIGNATURES = {
     forests: {
@@ -43,6 +43,21 @@ SIGNATURES = {
         "least_preparation": "(forest, *, prices=None)",
         "check_preparation_table": "(forest, table, *, prices=None)",
     },
+    counts: {
+        "count_table": "(forest)",
+        "count_runs": "(forest)",
+        "check_count_table": "(forest, table)",
+    },
+    positions: {
+        "rerooted": "(forest, label)",
+        "position_counts": "(forest, label)",
+        "edge_counts": "(forest, label)",
+    },
+    ranks: {
+        "run_at": "(forest, rank)",
+        "rank_of": "(forest, run)",
+        "next_run": "(forest, run)",
+    },
 }
 METHODS = {
     runs.Play: {
@@ -62,6 +77,7 @@ CONSTANTS = {
     forests: {"MOST_NODES": 60, "MOST_SIZE": 12, "MOST_WEIGHT": 10 ** 12},
     reach: {"MOST_BEST": 24},
     preparation: {"MOST_PRICE": 10 ** 12},
+    ranks: {"MOST_RANKED": 16},
 }
 
 
