@@ -1,7 +1,8 @@
 import inspect
 import unittest
 
-from dialforest import counts, foresttexts, forests, positions, preparation, ranks, reach, runs
+from dialforest import counts, edits, foresttexts, forests, joins, lengths, positions, preparation, ranks, reach, runs
+from dialforest import session
 
 SIGNATURES = {
     forests: {
@@ -58,6 +59,18 @@ SIGNATURES = {
         "rank_of": "(forest, run)",
         "next_run": "(forest, run)",
     },
+    lengths: {
+        "length_counts": "(forest)",
+    },
+    joins: {
+        "place_beside": "(forest, other)",
+        "trees": "(forest)",
+    },
+    edits: {
+        "apply_edit": "(forest, edit)",
+        "affected": "(forest, edit)",
+        "inverse": "(forest, edit)",
+    },
 }
 METHODS = {
     runs.Play: {
@@ -72,12 +85,31 @@ METHODS = {
         "weight": "(self)",
         "copy": "(self)",
     },
+    session.Session: {
+        "__init__": "(self, forest)",
+        "__eq__": "(self, other)",
+        "__len__": "(self)",
+        "__str__": "(self)",
+        "apply": "(self, edit)",
+        "undo": "(self)",
+        "forest": "(self)",
+        "reach_table": "(self)",
+        "preparation_table": "(self)",
+        "count_table": "(self)",
+        "greatest_weight": "(self)",
+        "least_price": "(self)",
+        "count_runs": "(self)",
+        "work": "(self)",
+        "edits": "(self)",
+        "copy": "(self)",
+    },
 }
 CONSTANTS = {
     forests: {"MOST_NODES": 60, "MOST_SIZE": 12, "MOST_WEIGHT": 10 ** 12},
     reach: {"MOST_BEST": 24},
     preparation: {"MOST_PRICE": 10 ** 12},
     ranks: {"MOST_RANKED": 16},
+    lengths: {"MOST_LENGTHS": 24},
 }
 
 
@@ -104,6 +136,7 @@ class Interface(unittest.TestCase):
 
     def test_each_class_is_defined_in_its_file(self):
         self.assertEqual(runs.Play.__module__, runs.__name__)
+        self.assertEqual(session.Session.__module__, session.__name__)
 
     def test_constants(self):
         for module, names in CONSTANTS.items():
